@@ -1,0 +1,1 @@
+"""Ripewaves: changes written back block by block, and whether the order matters."""

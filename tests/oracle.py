@@ -1,0 +1,142 @@
+"""What the tests compare with: the document's definitions, done plainly, with sets."""
+
+from itertools import combinations, product
+
+from ripewaves.books import Book
+from ripewaves.errors import BadBook, NoChange
+
+
+def deep(make, many):
+    """A thing nested so many deep."""
+    thing = make(None)
+    for _ in range(many - 1):
+        thing = make(thing)
+    return thing
+
+
+def odd_things():
+    """Things of many kinds; none of them is a number from 0 to 9999, a lot or a row."""
+    return [
+        None, True, False, -1, 10 ** 59, -(10 ** 59), "", "0", "ring", b"", b"0", bytearray(b"0"),
+        [], [0], [0, 1], [[0, 1]], {}, {0: 1}, {"a": [0]}, (None,), (True,), (False,), (-1,), ("0",),
+        ((0,),), ([],), ([0],), ({},), (0, True), (0, None), (10 ** 59,), ((),), ((0, 1),),
+        range(2), slice(0), Ellipsis, NotImplemented, len, int, tuple, Book, NoChange, object(),
+        memoryview(b"0"), iter(()), lambda: 0, Book((), ()), (Book((0,), ()),), [Book((0,), ())],
+        BadBook("ring"), NoChange(),
+        deep(lambda inner: (inner,), 40), deep(lambda inner: [inner], 40),
+        deep(lambda inner: {"a": inner}, 40), deep(lambda inner: (0, inner), 40),
+        tuple([None] * 19999), [0] * 19999, tuple([-1] * 19999),
+    ]
+
+
+class Dice:
+    """Numbers that look thrown but are the same at each run."""
+
+    def __init__(self, seed):
+        self.state = seed
+
+    def below(self, bound):
+        self.state = (self.state * 6364136223846793005 + 1442695040888963407) % 2 ** 64
+        return (self.state >> 33) % bound
+
+
+def thrown_book(dice, most_changes, most_blocks):
+    """A book of at most so many changes and blocks, the needs not only downwards."""
+    many = dice.below(most_changes + 1)
+    blocks = tuple(dice.below(most_blocks) for _ in range(many))
+    rank = list(range(many))
+    for at in range(many - 1, 0, -1):
+        to = dice.below(at + 1)
+        rank[at], rank[to] = rank[to], rank[at]
+    share = 1 + dice.below(6)
+    needs = [(a, b) for a in range(many) for b in range(many) if rank[a] > rank[b] and dice.below(6) < share]
+    return Book(blocks, tuple(needs))
+
+
+def thrown_books(seed, many, most_changes, most_blocks):
+    dice = Dice(seed)
+    return [thrown_book(dice, most_changes, most_blocks) for _ in range(many)]
+
+
+def small_books():
+    """All books of at most three changes in blocks 0 and 1."""
+    books = []
+    for many in range(4):
+        pairs = [(a, b) for a in range(many) for b in range(many) if a != b]
+        for blocks in product((0, 1), repeat=many):
+            for size in range(len(pairs) + 1):
+                for needs in combinations(pairs, size):
+                    if not has_ring(many, needs):
+                        books.append(Book(blocks, needs))
+    return books
+
+
+def reach(many, needs):
+    """For each change the set of all that it needs, however far."""
+    far = [set() for _ in range(many)]
+    grown = True
+    while grown:
+        grown = False
+        for change, other in needs:
+            more = far[change] | far[other] | {other}
+            if more != far[change]:
+                far[change] = more
+                grown = True
+    return far
+
+
+def has_ring(many, needs):
+    far = reach(many, needs)
+    return any(change in far[change] for change in range(many))
+
+
+def all_lots(many):
+    return [lot for size in range(many + 1) for lot in combinations(range(many), size)]
+
+
+def closed(book, lot):
+    return all(other in lot for change, other in book.needs if change in lot)
+
+
+def bring(book, standing, block):
+    """The greatest lot of a block's changes that can come: what can't is taken away till all can."""
+    lot = {c for c, b in enumerate(book.blocks) if b == block and c not in standing}
+    while True:
+        bad = {c for c, other in book.needs if c in lot and other not in standing and other not in lot}
+        if not bad:
+            return tuple(sorted(lot))
+        lot -= bad
+
+
+def behind(book, standing, block):
+    return tuple(sorted(standing + bring(book, standing, block)))
+
+
+def blocks_of(book):
+    return sorted(set(book.blocks))
+
+
+def reached(book, standing=()):
+    """All standings to which writes lead from a standing, fewest first."""
+    seen = {standing}
+    waiting = [standing]
+    while waiting:
+        there = waiting.pop()
+        for block in blocks_of(book):
+            onward = behind(book, there, block)
+            if onward not in seen:
+                seen.add(onward)
+                waiting.append(onward)
+    return sorted(seen, key=lambda lot: (len(lot), lot))
+
+
+def willing_rows(book, standing=()):
+    """All willing rows from a standing to all."""
+    if len(standing) == len(book.blocks):
+        return [()]
+    rows = []
+    for block in blocks_of(book):
+        onward = behind(book, standing, block)
+        if onward != standing:
+            rows.extend((block,) + row for row in willing_rows(book, onward))
+    return rows

@@ -1,0 +1,154 @@
+"""The package's files keep to the plain part of the language that they are written in, as far as can be seen here."""
+
+import ast
+import unittest
+from pathlib import Path
+
+PACKAGE = Path(__file__).resolve().parent.parent / "ripewaves"
+BUILTINS = {
+    "len", "range", "enumerate", "zip", "min", "max", "sum", "abs", "sorted", "reversed", "int", "str", "bool",
+    "list", "tuple", "dict", "set", "isinstance", "ord", "repr", "any", "all", "divmod", "ValueError",
+}
+ALL_BUILTINS = set(dir(__import__("builtins")))
+METHODS = set("__init__ __eq__ __repr__ __str__ __len__".split())
+WORDS = set("""type typing typing_extensions enum Enum IntEnum StrEnum Flag IntFlag Generic Protocol ABC ABCMeta
+namedtuple NamedTuple TypedDict TYPE_CHECKING abstractmethod register mro elements open input law version_info""".split())
+STATEMENTS = (ast.Import, ast.AsyncFunctionDef, ast.AsyncFor, ast.AsyncWith, ast.Await, ast.Global, ast.TryStar)
+EATERS = {"any", "all", "min", "max", "sum", "sorted"}
+
+
+def files():
+    return sorted(PACKAGE.glob("*.py"))
+
+
+def trees():
+    return [(path, ast.parse(path.read_text(encoding="ascii"))) for path in files()]
+
+
+def is_plain(value):
+    if isinstance(value, ast.UnaryOp) and isinstance(value.op, ast.USub):
+        return is_plain(value.operand)
+    return isinstance(value, (ast.Constant, ast.Tuple, ast.List, ast.Dict))
+
+
+class Files(unittest.TestCase):
+    def test_only_plain_files_stand_in_the_package(self):
+        for path in PACKAGE.iterdir():
+            if path.name != "__pycache__":
+                self.assertTrue(path.is_file() and path.suffix == ".py", path)
+                self.assertRegex(path.stem, r"^(__init__|[a-z][a-z0-9_]*)$")
+
+    def test_characters_and_lengths(self):
+        for path in files():
+            text = path.read_bytes().decode("ascii")
+            self.assertTrue(all(sign == "\n" or " " <= sign <= "~" for sign in text), path)
+            rows = text.split("\n")
+            self.assertLessEqual(len(rows), 400, path)
+            self.assertLessEqual(max(len(row) for row in rows), 120, path)
+
+    def test_length_of_functions(self):
+        for path, tree in trees():
+            for node in ast.walk(tree):
+                if isinstance(node, ast.FunctionDef):
+                    self.assertLessEqual(node.end_lineno - node.lineno + 1, 40, (path, node.name))
+
+
+class Rows(unittest.TestCase):
+    def test_module_level(self):
+        for path, tree in trees():
+            for at, node in enumerate(tree.body):
+                where = (path.name, node.lineno)
+                if isinstance(node, ast.Assign):
+                    self.assertEqual(len(node.targets), 1, where)
+                    self.assertTrue(is_plain(node.value), where)
+                elif isinstance(node, ast.Expr):
+                    self.assertEqual(at, 0, where)
+                else:
+                    self.assertIsInstance(node, (ast.ImportFrom, ast.FunctionDef, ast.ClassDef), where)
+
+    def test_imports(self):
+        for path, tree in trees():
+            for node in ast.walk(tree):
+                if isinstance(node, ast.ImportFrom):
+                    self.assertEqual(node.level, 0, path)
+                    self.assertTrue(node.module.startswith("ripewaves."), path)
+                    defined = definitions(ast.parse((PACKAGE / (node.module[10:] + ".py")).read_text()))
+                    for alias in node.names:
+                        self.assertIn(alias.name, defined, path)
+                        self.assertIsNone(alias.asname, path)
+
+    def test_no_two_files_import_each_other(self):
+        needs = {
+            path.stem: {n.module[10:] for n in ast.walk(tree) if isinstance(n, ast.ImportFrom)}
+            for path, tree in trees()
+        }
+        while needs:
+            free = [name for name in needs if not needs[name] & set(needs)]
+            self.assertTrue(free, needs)
+            for name in free:
+                del needs[name]
+
+    def test_nothing_that_is_barred(self):
+        for path, tree in trees():
+            for node in ast.walk(tree):
+                where = (path.name, getattr(node, "lineno", 0))
+                self.assertNotIsInstance(node, STATEMENTS, where)
+                if isinstance(node, (ast.FunctionDef, ast.ClassDef)):
+                    self.assertEqual(node.decorator_list, [], where)
+                    if node.name.startswith("__"):
+                        self.assertIn(node.name, METHODS, where)
+                if isinstance(node, ast.Constant):
+                    self.assertNotIsInstance(node.value, (float, complex), where)
+                if isinstance(node, ast.BinOp):
+                    self.assertNotIsInstance(node.op, (ast.Div, ast.MatMult), where)
+
+    def test_builtins(self):
+        for path, tree in trees():
+            for node in ast.walk(tree):
+                if isinstance(node, ast.Name) and node.id in ALL_BUILTINS:
+                    self.assertIsInstance(node.ctx, ast.Load, (path.name, node.lineno))
+                    self.assertIn(node.id, BUILTINS, (path.name, node.lineno))
+                if isinstance(node, ast.arg):
+                    self.assertNotIn(node.arg, ALL_BUILTINS, (path.name, node.lineno))
+
+    def test_words(self):
+        for path, tree in trees():
+            for node in ast.walk(tree):
+                names = [getattr(node, field, None) for field in ("id", "attr", "arg", "name")]
+                for name in names:
+                    self.assertNotIn(name, WORDS, path)
+
+    def test_lists_where_a_class_compares(self):
+        for path, tree in trees():
+            for node in ast.walk(tree):
+                if isinstance(node, ast.Call) and isinstance(node.func, ast.Name) and node.func.id in EATERS:
+                    for given in node.args:
+                        self.assertNotIsInstance(given, ast.GeneratorExp, (path.name, node.lineno))
+                if isinstance(node, ast.Call) and isinstance(node.func, ast.Attribute):
+                    self.assertNotEqual(node.func.attr, "sort", (path.name, node.lineno))
+
+
+def definitions(tree):
+    names = [node.name for node in tree.body if isinstance(node, (ast.FunctionDef, ast.ClassDef))]
+    return names + [node.targets[0].id for node in tree.body if isinstance(node, ast.Assign)]
+
+
+class Interface(unittest.TestCase):
+    def test_each_name_is_defined_in_its_file(self):
+        listed = {
+            "books": "Book beneath above filled bared day put_together parted beside drawn_together",
+            "standings": "is_standing comes ripe led is_willing standings many_rows",
+        }
+        for name, words in listed.items():
+            defined = definitions(ast.parse((PACKAGE / (name + ".py")).read_text()))
+            for word in words.split():
+                self.assertIn(word, defined)
+
+    def test_book_has_its_methods_in_its_own_body(self):
+        tree = ast.parse((PACKAGE / "books.py").read_text())
+        book = [node for node in tree.body if isinstance(node, ast.ClassDef)][0]
+        self.assertEqual([node.name for node in book.body if isinstance(node, ast.FunctionDef)], ["__init__", "__eq__"])
+
+
+if __name__ == "__main__":
+    unittest.main()
