@@ -5,9 +5,14 @@ changes are joined and compared again and again, and masks do that at once.
 """
 
 
+def is_integer(thing):
+    """Whether a thing is an integer; a flag is none."""
+    return isinstance(thing, int) and not isinstance(thing, bool)
+
+
 def is_number(thing):
-    """Whether a thing is an integer from 0 on; a flag is none."""
-    return isinstance(thing, int) and not isinstance(thing, bool) and thing >= 0
+    """Whether a thing is an integer from 0 on."""
+    return is_integer(thing) and thing >= 0
 
 
 def is_number_below(bound, thing):

@@ -140,3 +140,67 @@ def willing_rows(book, standing=()):
         if onward != standing:
             rows.extend((block,) + row for row in willing_rows(book, onward))
     return rows
+
+
+def all_rows(book, standing):
+    """All rows from a standing each of whose writes brings something, with the standings to which they lead."""
+    rows = [((), standing)]
+    for block in blocks_of(book):
+        onward = behind(book, standing, block)
+        if onward != standing:
+            rows.extend(((block,) + row, end) for row, end in all_rows(book, onward))
+    return rows
+
+
+def ripe_blocks(book, standing):
+    return [block for block in blocks_of(book) if bring(book, standing, block)]
+
+
+def two_bring(book, standing, one, other):
+    """All that comes when two blocks alone are written, again and again."""
+    there = standing
+    while True:
+        onward = behind(book, behind(book, there, one), other)
+        if onward == there:
+            return [change for change in there if change not in standing]
+        there = onward
+
+
+def turn_rows_from(book, far, area, change):
+    """All to-and-fro rows of changes of an area that begin with a change."""
+    rows = [(change,)]
+    for other in area:
+        if book.blocks[other] != book.blocks[change] and change in far[other]:
+            rows.extend((change,) + row for row in turn_rows_from(book, far, area, other))
+    return rows
+
+
+def turn_rows_of(book, area, begin):
+    """All to-and-fro rows of changes of an area of two blocks that begin in a block."""
+    far = reach(len(book.blocks), book.needs)
+    return [row for change in area if book.blocks[change] == begin for row in turn_rows_from(book, far, area, change)]
+
+
+def plain_to_and_fro(book, standing, one, other):
+    area = two_bring(book, standing, one, other)
+    return tuple(max(len(row) for row in turn_rows_of(book, area, begin)) for begin in (one, other))
+
+
+def plain_day(book, lot):
+    far = reach(len(book.blocks), book.needs)
+    needs = [(a, b) for a, c in enumerate(lot) for b, d in enumerate(lot) if d in far[c]]
+    return Book(tuple(book.blocks[change] for change in lot), tuple(needs))
+
+
+def plain_latecomers(book):
+    many = len(book.blocks)
+    far = reach(many, book.needs)
+    return [
+        (v, u, x) for v in range(many) for u in range(many) for x in range(many)
+        if u in far[v] and book.blocks[v] == book.blocks[x] != book.blocks[u] and x not in far[u] and u not in far[x]
+    ]
+
+
+def row_lengths(book):
+    """The ascending list of the lengths of the willing rows from nothing to all."""
+    return sorted({len(row) for row in willing_rows(book)})

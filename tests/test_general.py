@@ -3,13 +3,15 @@
 import copy
 import unittest
 
-from ripewaves import books
+from ripewaves import books, days, even, texts
 from ripewaves import standings as rows
 from ripewaves.books import Book, bared, drawn_together, filled
-from ripewaves.errors import WaveError
+from ripewaves.cache import Cache
+from ripewaves.errors import Late, WaveError
 from ripewaves.standings import led, many_rows, standings
 from oracle import deep, odd_things, thrown_books
 
+LATE = Book((0, 1, 1), ((1, 0),))
 EVEN = Book((0, 0, 1, 1), ((1, 2), (3, 0)))
 WAVED = Book((0, 0, 1), ((1, 2), (2, 0)))
 NEEDS = tuple((a, b) for a in range(200) for b in range(a))[-4000:]
@@ -27,6 +29,11 @@ def right_calls(book):
         (rows.is_standing, (book, whole)), (rows.comes, (book, (), 1)), (rows.ripe, (book, ())),
         (rows.led, (book, (), (0, 1, 0))), (rows.is_willing, (book, (), (0, 1, 0))),
         (rows.standings, (book,)), (rows.many_rows, (book,)),
+        (even.fewest, (book,)), (even.most, (book,)), (even.shortest, (book,)), (even.longest, (book,)),
+        (even.is_even, (book,)), (even.lefts, (book,)), (even.is_lefts, (book, {(): 1, (0,): 0})),
+        (even.parting, (book,)), (even.is_parting, (book, ((), (0, 1), (1, 0, 1)))),
+        (days.latecomer, (book,)), (days.latecomers, (book,)), (days.bad_days, (book,)), (days.is_even_daily, (book,)),
+        (texts.book_text, (book,)),
     ]
 
 
@@ -39,12 +46,22 @@ def wrong_calls(book):
         (books.drawn_together, ((0, 1), loop)), (books.drawn_together, ((0, 1), [(0, 1)])),
         (rows.comes, (book, [], 0)), (rows.comes, (book, (), [0])), (rows.ripe, (book, {})),
         (rows.led, (book, (), [0, 1])), (rows.led, (book, (), (0, [1]))), (rows.is_willing, (book, [0], ())),
+        (even.to_and_fro, (book, [0], 0, 1)), (even.to_and_fro, (book, (), [0], {0: 1})), (Cache, ([1, [2]],)),
+        (days.waves, (book, [0])), (days.waves, (book, {0: 0})),
     ]
 
 
 def sample():
     many = [book for book in thrown_books(31, 60, 7, 3) if {0, 1} <= set(book.blocks)]
     return many + [EVEN, WAVED, Book((0, 1) * 100, NEEDS)]
+
+
+def outcome(function, *given):
+    """What a function returns, or the class and the triple or number of what it raises."""
+    try:
+        return function(*given)
+    except WaveError as error:
+        return type(error), error.triple if isinstance(error, Late) else error.most
 
 
 class Unchanged(unittest.TestCase):
@@ -71,10 +88,27 @@ class Unchanged(unittest.TestCase):
                 before = copy.deepcopy(thing)
                 rows.is_standing(EVEN, thing)
                 rows.is_willing(EVEN, (), thing)
+                even.is_lefts(EVEN, thing)
+                even.is_lefts(EVEN, {(): thing})
+                even.is_parting(EVEN, thing)
+                even.is_parting(EVEN, ((), thing, thing))
                 for function, given in ((books.day, (EVEN, thing)), (rows.led, (EVEN, (), thing))):
                     with self.subTest(at), self.assertRaises(WaveError):
                         function(*given)
                 self.assertTrue(thing == before)
+
+    def test_calls_that_are_right_for_some_books_alone(self):
+        for book in sample():
+            for function in (days.many_writes, days.fewest_parted, days.greatest_share):
+                before = copy.deepcopy(vars(book))
+                self.assertEqual(outcome(function, book), outcome(function, book))
+                self.assertEqual(vars(book), before)
+            for block in set(book.blocks):
+                self.assertEqual(outcome(days.waves, book, block), outcome(days.waves, book, block))
+            if rows.ripe(book, ()) == (0, 1):
+                pair = even.to_and_fro(book, (), 0, 1)
+                self.assertEqual(pair, even.to_and_fro(Book(book.blocks, book.needs), (), 0, 1))
+                self.assertEqual(type(pair), tuple)
 
     def test_equal_calls_give_equal_answers(self):
         for book in sample():
@@ -87,7 +121,10 @@ class Unchanged(unittest.TestCase):
 
 class New(unittest.TestCase):
     def test_lists_that_are_returned_are_new(self):
-        for function, given in ((standings, (EVEN,)), (led, (EVEN, (), (0, 1)))):
+        for function, given in (
+            (standings, (EVEN,)), (led, (EVEN, (), (0, 1))), (days.latecomers, (EVEN,)), (days.bad_days, (EVEN,)),
+            (days.waves, (WAVED, 0)),
+        ):
             first = function(*given)
             kept = list(first)
             first.append(None)
@@ -99,10 +136,23 @@ class New(unittest.TestCase):
     def test_kinds_of_results(self):
         for book in sample():
             for function, given in right_calls(book):
-                kind = type(function(*given))
-                self.assertIs(kind, KINDS[function.__name__], function.__name__)
+                self.check_kind(function(*given), KINDS[function.__name__])
         for lot in standings(EVEN) + led(EVEN, (), (0, 1)):
             self.assertIs(type(lot), tuple)
+
+        for lot in days.waves(WAVED, 0) + days.bad_days(EVEN) + days.latecomers(EVEN) + list(even.lefts(EVEN)):
+            self.assertIs(type(lot), tuple)
+        for part in even.parting(books.beside(WAVED, Book((0, 1, 1), ((1, 0),)))):
+            self.assertIs(type(part), tuple)
+        self.assertEqual([type(days.many_writes(WAVED)), type(days.waves(WAVED, 0))], [int, list])
+        for call in (days.fewest_parted, days.greatest_share):
+            self.assertIs(type(call(EVEN)), tuple)
+
+    def check_kind(self, result, kinds):
+        """A kind, or a pair of a kind and None."""
+        if isinstance(kinds, tuple) and result is None:
+            return
+        self.assertIs(type(result), kinds[0] if isinstance(kinds, tuple) else kinds)
 
     def test_copies_of_books_are_equal(self):
         for book in sample():
@@ -114,6 +164,9 @@ KINDS = {
     "beneath": tuple, "above": tuple, "filled": Book, "bared": Book, "day": Book, "put_together": Book,
     "parted": Book, "beside": Book, "drawn_together": tuple, "is_standing": bool, "comes": tuple, "ripe": tuple,
     "led": list, "is_willing": bool, "standings": list, "many_rows": int,
+    "fewest": int, "most": int, "shortest": tuple, "longest": tuple, "is_even": bool, "lefts": (dict, None),
+    "is_lefts": bool, "parting": (tuple, None), "is_parting": bool, "latecomer": (tuple, None), "latecomers": list,
+    "bad_days": list, "is_even_daily": bool, "book_text": str,
 }
 
 
@@ -130,12 +183,22 @@ class DeepThings(unittest.TestCase):
     def judged(self, thing):
         self.assertIs(rows.is_standing(EVEN, thing), False)
         self.assertIs(rows.is_willing(EVEN, (), thing), False)
+        for given in (thing, {(): thing}, ((), thing, thing), (thing, (), ()), [thing], (thing,)):
+            self.assertIs(even.is_lefts(EVEN, given), False)
+            self.assertIs(even.is_parting(LATE, given), False)
+        cache = Cache((1, 1))
         calls = [
             (Book, (thing, ())), (Book, ((0, 0), (thing,))), (drawn_together, (thing, ())),
             (drawn_together, ((0, 0), (thing,))), (books.beneath, (EVEN, thing)), (books.above, (EVEN, thing)),
             (books.day, (EVEN, thing)), (books.parted, (EVEN, thing)), (books.put_together, (EVEN, thing, thing)),
             (rows.ripe, (EVEN, thing)), (rows.comes, (EVEN, thing, 0)), (rows.comes, (EVEN, (), thing)),
             (rows.led, (EVEN, thing, ())), (rows.led, (EVEN, (), (thing,))), (rows.is_willing, (EVEN, thing, ())),
+            (even.to_and_fro, (EVEN, thing, 0, 1)), (even.to_and_fro, (EVEN, (), thing, 0)),
+            (even.to_and_fro, (EVEN, (), 0, thing)), (days.waves, (EVEN, thing)), (Cache, (thing,)),
+            (cache.change, (thing, 0, 0, ())), (cache.change, (0, thing, 0, ())), (cache.change, (0, 0, thing, ())),
+            (cache.change, (0, 0, 0, thing)), (cache.last, (thing, 0)), (cache.last, (0, thing)),
+            (cache.write, (thing,)), (cache.seen, (thing,)), (cache.picture, (thing,)), (cache.disk, (thing,)),
+            (cache.drop, (thing,)), (cache.sync, (thing,)), (cache.gone, (thing,)),
         ]
         for function, given in calls:
             with self.assertRaises(WaveError):
@@ -151,15 +214,43 @@ class DeepThings(unittest.TestCase):
         self.assertEqual(bared(great), great)
         self.assertEqual(len(standings(books.day(great, tuple(range(200))))), 201)
         self.assertEqual(led(great, (), (1, 0, 1)), [(), (), (0,), (0, 1)])
+        self.assertEqual(even.to_and_fro(great, (), 0, 2), (1, 1))
+        self.assertEqual(even.to_and_fro(great, (), 30, 2), (1, 1))
+        self.assertEqual((even.fewest(chain), len(even.shortest(chain)), even.lefts(chain)[()]), (200, 200, 200))
+        self.assertIsNone(days.latecomer(great))
+        self.assertEqual((days.latecomers(great), days.bad_days(great), days.many_writes(great)), ([], [], 3200))
+        self.assertEqual(len(days.waves(great, 31)), 100)
+        self.assertEqual(len(texts.book_text(great).split("\n")), 3200 - 16 + 2)
 
 
 class Examples(unittest.TestCase):
+    def test_e01(self):
+        got = (even.fewest(LATE), even.most(LATE), even.shortest(LATE), even.longest(LATE), even.is_even(LATE))
+        self.assertEqual(got, (2, 3, (0, 1), (1, 0, 1), False))
+
+    def test_e02(self):
+        got = (days.latecomer(LATE), days.bad_days(LATE), even.to_and_fro(LATE, (), 0, 1),
+               even.is_parting(LATE, ((), (0, 1), (1, 0, 1))))
+        self.assertEqual(got, ((1, 0, 2), [(0, 1, 2)], (2, 1), True))
+
     def test_e03(self):
-        self.assertEqual((standings(EVEN), many_rows(EVEN)),
-                         ([(), (0,), (2,), (0, 1, 2), (0, 2, 3), (0, 1, 2, 3)], 2))
+        got = (standings(EVEN), many_rows(EVEN), even.is_even(EVEN), even.lefts(EVEN)[()],
+               even.to_and_fro(EVEN, (), 0, 1))
+        self.assertEqual(got, ([(), (0,), (2,), (0, 1, 2), (0, 2, 3), (0, 1, 2, 3)], 2, True, 3, (2, 2)))
 
     def test_e04(self):
-        self.assertIs(bared(filled(WAVED)) == WAVED, True)
+        got = (days.latecomer(WAVED), days.waves(WAVED, 0), days.many_writes(WAVED), bared(filled(WAVED)) == WAVED)
+        self.assertEqual(got, (None, [(0,), (1,)], 3, True))
+
+    def test_e07(self):
+        cache = Cache((1, 1))
+        made = (cache.change(0, 0, 5, ()), cache.change(1, 0, 7, (0,)), cache.change(0, 0, 6, (1,)))
+        self.assertEqual(made, (0, 1, 2))
+        got = (cache.picture(0), cache.seen(0), cache.sync((2,)), cache.writes(), cache.disk(0))
+        self.assertEqual(got, ((5,), (6,), (0, 1, 0), 3, (6,)))
+
+    def test_e09(self):
+        self.assertEqual(texts.book_text(LATE), "blocks 0 1 1\n1 : 0\n")
 
     def test_e08(self):
         got = drawn_together((0, 0, 1), ((0, 1), (1, 0), (2, 1)))

@@ -14,6 +14,10 @@ METHODS = set("__init__ __eq__ __repr__ __str__ __len__".split())
 WORDS = set("""type typing typing_extensions enum Enum IntEnum StrEnum Flag IntFlag Generic Protocol ABC ABCMeta
 namedtuple NamedTuple TypedDict TYPE_CHECKING abstractmethod register mro elements open input law version_info""".split())
 STATEMENTS = (ast.Import, ast.AsyncFunctionDef, ast.AsyncFor, ast.AsyncWith, ast.Await, ast.Global, ast.TryStar)
+LIBRARY = {
+    "math": {"gcd", "lcm", "isqrt", "comb", "perm", "factorial"},
+    "itertools": {"product", "combinations", "permutations"},
+}
 EATERS = {"any", "all", "min", "max", "sum", "sorted"}
 
 
@@ -71,15 +75,33 @@ class Rows(unittest.TestCase):
             for node in ast.walk(tree):
                 if isinstance(node, ast.ImportFrom):
                     self.assertEqual(node.level, 0, path)
+                    if node.module in LIBRARY:
+                        self.check_library(path, tree, node)
+                        continue
                     self.assertTrue(node.module.startswith("ripewaves."), path)
                     defined = definitions(ast.parse((PACKAGE / (node.module[10:] + ".py")).read_text()))
                     for alias in node.names:
                         self.assertIn(alias.name, defined, path)
                         self.assertIsNone(alias.asname, path)
 
+    def check_library(self, path, tree, node):
+        """Of the library just the names that are let, and these are only called, with arguments by position."""
+        for alias in node.names:
+            self.assertIn(alias.name, LIBRARY[node.module], path)
+            self.assertIsNone(alias.asname, path)
+            calls = [n for n in ast.walk(tree) if isinstance(n, ast.Call) and getattr(n.func, "id", "") == alias.name]
+            reads = [n for n in ast.walk(tree) if isinstance(n, ast.Name) and n.id == alias.name]
+            self.assertEqual(len(calls), len(reads), path)
+            self.assertTrue(calls, path)
+            for call in calls:
+                self.assertEqual(call.keywords, [], path)
+
     def test_no_two_files_import_each_other(self):
         needs = {
-            path.stem: {n.module[10:] for n in ast.walk(tree) if isinstance(n, ast.ImportFrom)}
+            path.stem: {
+                n.module[10:] for n in ast.walk(tree)
+                if isinstance(n, ast.ImportFrom) and n.module not in LIBRARY
+            }
             for path, tree in trees()
         }
         while needs:
@@ -138,16 +160,29 @@ class Interface(unittest.TestCase):
         listed = {
             "books": "Book beneath above filled bared day put_together parted beside drawn_together",
             "standings": "is_standing comes ripe led is_willing standings many_rows",
+            "even": "fewest most shortest longest is_even is_lefts is_parting lefts to_and_fro parting",
+            "days": "latecomer latecomers bad_days waves is_even_daily many_writes fewest_parted greatest_share",
+            "cache": "Cache",
+            "texts": "book_text",
         }
         for name, words in listed.items():
             defined = definitions(ast.parse((PACKAGE / (name + ".py")).read_text()))
             for word in words.split():
                 self.assertIn(word, defined)
 
-    def test_book_has_its_methods_in_its_own_body(self):
-        tree = ast.parse((PACKAGE / "books.py").read_text())
-        book = [node for node in tree.body if isinstance(node, ast.ClassDef)][0]
-        self.assertEqual([node.name for node in book.body if isinstance(node, ast.FunctionDef)], ["__init__", "__eq__"])
+    def test_classes_have_their_methods_in_their_own_bodies(self):
+        listed = {
+            "books": "__init__ __eq__",
+            "cache": "change writes last write waiting ripe cut seen picture disk sync flush book drop gone history copy",
+        }
+        for name, words in listed.items():
+            tree = ast.parse((PACKAGE / (name + ".py")).read_text())
+            [made] = [node for node in tree.body if isinstance(node, ast.ClassDef)]
+            self.assertEqual(made.bases, [])
+            own = [node.name for node in made.body if isinstance(node, ast.FunctionDef)]
+            self.assertEqual(len(own), len(set(own)))
+            for word in words.split():
+                self.assertIn(word, own)
 
 
 if __name__ == "__main__":
