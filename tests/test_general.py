@@ -3,7 +3,7 @@
 import copy
 import unittest
 
-from ripewaves import books, days, even, texts
+from ripewaves import books, days, even, lists, reading, texts, twoblocks
 from ripewaves import standings as rows
 from ripewaves.books import Book, bared, drawn_together, filled
 from ripewaves.cache import Cache
@@ -13,6 +13,7 @@ from oracle import deep, odd_things, thrown_books
 
 LATE = Book((0, 1, 1), ((1, 0),))
 EVEN = Book((0, 0, 1, 1), ((1, 2), (3, 0)))
+ONE, OTHER = (0, 1, 2, 5), (2, 1, 0, 1)
 WAVED = Book((0, 0, 1), ((1, 2), (2, 0)))
 NEEDS = tuple((a, b) for a in range(200) for b in range(a))[-4000:]
 
@@ -33,7 +34,19 @@ def right_calls(book):
         (even.is_even, (book,)), (even.lefts, (book,)), (even.is_lefts, (book, {(): 1, (0,): 0})),
         (even.parting, (book,)), (even.is_parting, (book, ((), (0, 1), (1, 0, 1)))),
         (days.latecomer, (book,)), (days.latecomers, (book,)), (days.bad_days, (book,)), (days.is_even_daily, (book,)),
-        (texts.book_text, (book,)),
+        (texts.book_text, (book,)), (reading.read_book, (texts.book_text(book),)), (twoblocks.pair_floor, (book,)),
+        (lists.lists_book, (ONE, OTHER)), (lists.meetings, (ONE, OTHER)), (lists.fewest_lists, (ONE, OTHER)),
+        (lists.most_lists, (ONE, OTHER)), (lists.least_row, (ONE, OTHER)), (lists.mirrors, (ONE, OTHER)),
+        (lists.is_mirrors, (ONE, OTHER, (2,))), (lists.list_parting, (ONE, OTHER)), (lists.many_even, (ONE, 2, 3)),
+    ]
+
+
+def right_calls_of_two(book):
+    """The same for a book of the blocks 0 and 1 alone."""
+    return [
+        (twoblocks.is_to_and_fro, (book, (0, 1))), (twoblocks.two_rows, (book,)), (twoblocks.long_row, (book,)),
+        (twoblocks.fewest_two, (book,)), (twoblocks.by_turns, (book, 1)), (twoblocks.number_at, (book, 1, 0)),
+        (twoblocks.row_to, (book, 1, 0)), (twoblocks.row_to, (book, 0, 0)),
     ]
 
 
@@ -47,7 +60,10 @@ def wrong_calls(book):
         (rows.comes, (book, [], 0)), (rows.comes, (book, (), [0])), (rows.ripe, (book, {})),
         (rows.led, (book, (), [0, 1])), (rows.led, (book, (), (0, [1]))), (rows.is_willing, (book, [0], ())),
         (even.to_and_fro, (book, [0], 0, 1)), (even.to_and_fro, (book, (), [0], {0: 1})), (Cache, ([1, [2]],)),
-        (days.waves, (book, [0])), (days.waves, (book, {0: 0})),
+        (days.waves, (book, [0])), (days.waves, (book, {0: 0})), (reading.read_book, (["blocks\n"],)),
+        (twoblocks.by_turns, (book, [0])), (twoblocks.number_at, (book, 0, [0])), (twoblocks.row_to, (book, 0, {0: 0})),
+        (lists.lists_book, ([0], [[1]])), (lists.meetings, ((), [1, [2]])), (lists.is_mirrors, ([0], (), ())),
+        (lists.many_even, ([0], 1, 1)), (lists.many_even, ((), [1], [1])), (lists.many_even, ((), 1, {1: 1})),
     ]
 
 
@@ -67,7 +83,8 @@ def outcome(function, *given):
 class Unchanged(unittest.TestCase):
     def test_right_calls_leave_their_arguments(self):
         for book in sample():
-            for function, given in right_calls(book):
+            two = right_calls_of_two(book) if set(book.blocks) == {0, 1} else []
+            for function, given in right_calls(book) + two:
                 before = copy.deepcopy(given)
                 inside = [copy.deepcopy(vars(thing)) for thing in given if isinstance(thing, Book)]
                 function(*given)
@@ -92,6 +109,10 @@ class Unchanged(unittest.TestCase):
                 even.is_lefts(EVEN, {(): thing})
                 even.is_parting(EVEN, thing)
                 even.is_parting(EVEN, ((), thing, thing))
+                twoblocks.is_to_and_fro(EVEN, thing)
+                twoblocks.is_to_and_fro(EVEN, (0, thing))
+                lists.is_mirrors(ONE, OTHER, thing)
+                lists.is_mirrors(ONE, OTHER, (thing,))
                 for function, given in ((books.day, (EVEN, thing)), (rows.led, (EVEN, (), thing))):
                     with self.subTest(at), self.assertRaises(WaveError):
                         function(*given)
@@ -117,13 +138,16 @@ class Unchanged(unittest.TestCase):
                 first = function(*given)
                 self.assertEqual(first, function(*given))
                 self.assertEqual(first, function(*other))
+            if set(book.blocks) == {0, 1}:
+                for (function, given), (_, other) in zip(right_calls_of_two(book), right_calls_of_two(again)):
+                    self.assertEqual(function(*given), function(*other))
 
 
 class New(unittest.TestCase):
     def test_lists_that_are_returned_are_new(self):
         for function, given in (
             (standings, (EVEN,)), (led, (EVEN, (), (0, 1))), (days.latecomers, (EVEN,)), (days.bad_days, (EVEN,)),
-            (days.waves, (WAVED, 0)),
+            (days.waves, (WAVED, 0)), (lists.meetings, (ONE, OTHER)), (twoblocks.by_turns, (WAVED, 1)),
         ):
             first = function(*given)
             kept = list(first)
@@ -137,6 +161,9 @@ class New(unittest.TestCase):
         for book in sample():
             for function, given in right_calls(book):
                 self.check_kind(function(*given), KINDS[function.__name__])
+            if set(book.blocks) == {0, 1}:
+                for function, given in right_calls_of_two(book):
+                    self.check_kind(function(*given), KINDS[function.__name__])
         for lot in standings(EVEN) + led(EVEN, (), (0, 1)):
             self.assertIs(type(lot), tuple)
 
@@ -166,7 +193,11 @@ KINDS = {
     "led": list, "is_willing": bool, "standings": list, "many_rows": int,
     "fewest": int, "most": int, "shortest": tuple, "longest": tuple, "is_even": bool, "lefts": (dict, None),
     "is_lefts": bool, "parting": (tuple, None), "is_parting": bool, "latecomer": (tuple, None), "latecomers": list,
-    "bad_days": list, "is_even_daily": bool, "book_text": str,
+    "bad_days": list, "is_even_daily": bool, "book_text": str, "read_book": Book, "pair_floor": int,
+    "lists_book": Book, "meetings": list, "fewest_lists": int, "most_lists": int, "least_row": tuple,
+    "mirrors": (tuple, None), "is_mirrors": bool, "list_parting": (tuple, None), "many_even": int,
+    "is_to_and_fro": bool, "two_rows": tuple, "long_row": tuple, "fewest_two": int, "by_turns": list,
+    "number_at": int, "row_to": (tuple, None),
 }
 
 
@@ -186,6 +217,8 @@ class DeepThings(unittest.TestCase):
         for given in (thing, {(): thing}, ((), thing, thing), (thing, (), ()), [thing], (thing,)):
             self.assertIs(even.is_lefts(EVEN, given), False)
             self.assertIs(even.is_parting(LATE, given), False)
+            self.assertIs(twoblocks.is_to_and_fro(LATE, given), False)
+            self.assertIs(lists.is_mirrors(ONE, OTHER, given), False)
         cache = Cache((1, 1))
         calls = [
             (Book, (thing, ())), (Book, ((0, 0), (thing,))), (drawn_together, (thing, ())),
@@ -199,6 +232,12 @@ class DeepThings(unittest.TestCase):
             (cache.change, (0, 0, 0, thing)), (cache.last, (thing, 0)), (cache.last, (0, thing)),
             (cache.write, (thing,)), (cache.seen, (thing,)), (cache.picture, (thing,)), (cache.disk, (thing,)),
             (cache.drop, (thing,)), (cache.sync, (thing,)), (cache.gone, (thing,)),
+            (reading.read_book, (thing,)), (twoblocks.by_turns, (EVEN, thing)), (twoblocks.number_at, (EVEN, thing, 0)),
+            (twoblocks.number_at, (EVEN, 0, thing)), (twoblocks.row_to, (EVEN, thing, 0)),
+            (twoblocks.row_to, (EVEN, 0, thing)), (lists.lists_book, (thing, ())), (lists.meetings, ((), thing)),
+            (lists.fewest_lists, ((thing,), ())), (lists.most_lists, ((), (thing,))), (lists.least_row, (thing, ())),
+            (lists.mirrors, (thing, thing)), (lists.is_mirrors, ((0, thing), (), ())), (lists.list_parting, (thing, 0)),
+            (lists.many_even, (thing, 0, 0)), (lists.many_even, ((), thing, 0)), (lists.many_even, ((), 0, thing)),
         ]
         for function, given in calls:
             with self.assertRaises(WaveError):
@@ -221,6 +260,12 @@ class DeepThings(unittest.TestCase):
         self.assertEqual((days.latecomers(great), days.bad_days(great), days.many_writes(great)), ([], [], 3200))
         self.assertEqual(len(days.waves(great, 31)), 100)
         self.assertEqual(len(texts.book_text(great).split("\n")), 3200 - 16 + 2)
+        long = chain
+        for _ in range(3):
+            long = books.put_together(books.put_together(books.beside(long, chain), 0, 2), 1, 3)
+        self.assertEqual((len(long.blocks), twoblocks.two_rows(long), twoblocks.pair_floor(long)), (800, (200, 199), 200))
+        self.assertEqual(len(twoblocks.by_turns(long, 1)), 201)
+        self.assertEqual(reading.read_book(texts.book_text(chain)), chain)
 
 
 class Examples(unittest.TestCase):
@@ -242,6 +287,11 @@ class Examples(unittest.TestCase):
         got = (days.latecomer(WAVED), days.waves(WAVED, 0), days.many_writes(WAVED), bared(filled(WAVED)) == WAVED)
         self.assertEqual(got, (None, [(0,), (1,)], 3, True))
 
+    def test_e05(self):
+        got = (twoblocks.fewest_two(EVEN), twoblocks.two_rows(LATE), lists.fewest_lists((0, 1, 2), (2, 1, 0)),
+               lists.mirrors((0, 1, 2), (2, 1, 0)))
+        self.assertEqual(got, (3, (2, 1), 5, (2,)))
+
     def test_e07(self):
         cache = Cache((1, 1))
         made = (cache.change(0, 0, 5, ()), cache.change(1, 0, 7, (0,)), cache.change(0, 0, 6, (1,)))
@@ -251,6 +301,7 @@ class Examples(unittest.TestCase):
 
     def test_e09(self):
         self.assertEqual(texts.book_text(LATE), "blocks 0 1 1\n1 : 0\n")
+        self.assertEqual(reading.read_book("blocks 0 1 1\n1 : 0\n"), LATE)
 
     def test_e08(self):
         got = drawn_together((0, 0, 1), ((0, 1), (1, 0), (2, 1)))

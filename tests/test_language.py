@@ -164,6 +164,10 @@ class Interface(unittest.TestCase):
             "days": "latecomer latecomers bad_days waves is_even_daily many_writes fewest_parted greatest_share",
             "cache": "Cache",
             "texts": "book_text",
+            "reading": "read_book",
+            "twoblocks": "is_to_and_fro two_rows long_row fewest_two by_turns number_at row_to pair_floor",
+            "lists": """lists_book meetings fewest_lists most_lists least_row mirrors is_mirrors list_parting
+            many_even""",
         }
         for name, words in listed.items():
             defined = definitions(ast.parse((PACKAGE / (name + ".py")).read_text()))
