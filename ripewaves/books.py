@@ -29,13 +29,17 @@ class Book:
         return isinstance(other, Book) and self.blocks == other.blocks and self.needs == other.needs
 
 
+def are_blocks(thing):
+    """Whether a thing can be the blocks of a book."""
+    if not isinstance(thing, tuple) or len(thing) > MOST_CHANGES:
+        return False
+    return all([is_number_below(MOST_BLOCKS, block) for block in thing])
+
+
 def check_parts(blocks, needs):
     """Raise BadBook for all that can be wrong with the parts of a book, but a ring."""
-    if not isinstance(blocks, tuple) or len(blocks) > MOST_CHANGES:
+    if not are_blocks(blocks):
         raise BadBook("blocks")
-    for block in blocks:
-        if not is_number_below(MOST_BLOCKS, block):
-            raise BadBook("blocks")
     if not isinstance(needs, tuple) or len(needs) > MOST_NEEDS:
         raise BadBook("needs")
     for index, need in enumerate(needs):
@@ -72,6 +76,20 @@ def is_change(book, thing):
     return is_number_below(len(book.blocks), thing)
 
 
+def is_row_of_needs(book, thing):
+    """Whether a thing is a tuple of changes, not empty, each of which needs the one ahead, however far."""
+    if not isinstance(thing, tuple) or thing == ():
+        return False
+    if not all([is_change(book, change) for change in thing]):
+        return False
+    return all([book.far[thing[at]] >> thing[at - 1] & 1 for at in range(1, len(thing))])
+
+
+def needs_of(masks):
+    """The ascending tuple of the needs of changes of others, by the mask of these for each change."""
+    return tuple([(change, other) for change, mask in enumerate(masks) for other in lot_of(mask)])
+
+
 def beneath(book, change):
     """The lot of all that a change needs, however far."""
     if not is_change(book, change):
@@ -88,8 +106,7 @@ def above(book, change):
 
 def filled(book):
     """The book in which each change needs, directly, all that it needs however far."""
-    needs = [(change, other) for change, mask in enumerate(book.far) for other in lot_of(mask)]
-    return made_book(book.blocks, tuple(needs))
+    return made_book(book.blocks, needs_of(book.far))
 
 
 def bared(book):

@@ -1,12 +1,11 @@
 """Books that are even on every day, and the latecomers of others."""
 
 from itertools import combinations
-from math import gcd
 
 from ripewaves.books import day, is_block
 from ripewaves.errors import Late, NoBlock, TooMany
 from ripewaves.even import fewest, most
-from ripewaves.lots import lot_of, mask_of
+from ripewaves.lots import lot_of, lowest_terms, mask_of
 from ripewaves.standings import block_masks
 
 MOST_TO_PART = 10
@@ -130,5 +129,4 @@ def greatest_share(book):
         high, low = most(some), fewest(some)
         if high * bottom > top * low:
             top, bottom = high, low
-    shared = gcd(top, bottom)
-    return top // shared, bottom // shared
+    return lowest_terms(top, bottom)

@@ -1,8 +1,10 @@
-"""Numbers and lots, and lots as masks.
+"""Numbers, lots, and lots as masks.
 
 A mask is a number whose bit c tells whether change c is in the lot: lots of
 changes are joined and compared again and again, and masks do that at once.
 """
+
+from math import gcd
 
 
 def is_integer(thing):
@@ -30,6 +32,12 @@ def is_lot_below(bound, thing):
             return False
         ahead = item
     return True
+
+
+def lowest_terms(top, bottom):
+    """The quotient of two numbers, the second one not 0, as a pair in lowest terms."""
+    shared = gcd(top, bottom)
+    return top // shared, bottom // shared
 
 
 def mask_of(lot):

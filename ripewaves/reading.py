@@ -7,18 +7,18 @@ MOST_FIGURES = 20
 FIGURES = "0123456789"
 
 
-def is_decimal(word):
-    """Whether a word is a number of few enough figures, without needless zeros."""
-    if word == "" or len(word) > MOST_FIGURES:
+def is_decimal(word, most):
+    """Whether a word is a number of at most so many figures, without needless zeros."""
+    if word == "" or len(word) > most:
         return False
     if word[0] == "0" and word != "0":
         return False
     return all([sign in FIGURES for sign in word])
 
 
-def numbers_of(words):
-    """The list of the numbers that words tell, or None if one tells none."""
-    if not all([is_decimal(word) for word in words]):
+def numbers_of(words, most):
+    """The list of the numbers, of at most so many figures, that words tell, or None if one tells none."""
+    if not all([is_decimal(word, most) for word in words]):
         return None
     return [int(word) for word in words]
 
@@ -33,7 +33,7 @@ def blocks_told(line):
     words = line.split(" ")
     if words[0] != "blocks":
         return None
-    return numbers_of(words[1:])
+    return numbers_of(words[1:], MOST_FIGURES)
 
 
 def needs_told(line, ahead):
@@ -44,7 +44,7 @@ def needs_told(line, ahead):
     words = line.split(" ")
     if len(words) < 3 or words[1] != ":":
         return None
-    numbers = numbers_of(words[:1] + words[2:])
+    numbers = numbers_of(words[:1] + words[2:], MOST_FIGURES)
     if numbers is None or numbers[0] <= ahead or not is_ascending(numbers[1:]):
         return None
     return [(numbers[0], other) for other in numbers[1:]]

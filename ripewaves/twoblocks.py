@@ -2,7 +2,7 @@
 
 from itertools import combinations
 
-from ripewaves.books import is_block, is_change
+from ripewaves.books import is_block, is_change, is_row_of_needs
 from ripewaves.errors import NoBlock, NoChange, NotTwo
 from ripewaves.even import greatest_turns, turn_rows
 from ripewaves.lots import full_mask, lot_of
@@ -28,16 +28,10 @@ def masks_from(book, block):
 def is_to_and_fro(book, thing):
     """Whether a thing is a to-and-fro row."""
     two_masks(book)
-    if not isinstance(thing, tuple) or thing == ():
+    if not is_row_of_needs(book, thing):
         return False
-    if not all([is_change(book, change) for change in thing]):
-        return False
-    return all([goes_on(book, thing[at - 1], thing[at]) for at in range(1, len(thing))])
-
-
-def goes_on(book, ahead, change):
-    """Whether a change may stand behind another one in a to-and-fro row."""
-    return book.blocks[change] != book.blocks[ahead] and book.far[change] >> ahead & 1 == 1
+    blocks = [book.blocks[change] for change in thing]
+    return all([blocks[at] != blocks[at - 1] for at in range(1, len(blocks))])
 
 
 def pair_rows(book, one, other):
@@ -114,11 +108,22 @@ def row_to(book, block, change):
     return row_back(rows, change)
 
 
-def pair_floor(book):
-    """The greatest number that the rows of two blocks, with one write of each other block, ask for.
+def floor_of(book, masks, kept):
+    """The greatest number that the rows of two of some masks, with one write of each other, ask for.
 
-    Rows of two blocks of a book are those of the day of their changes: both go by needs however far.
+    Each mask holds changes of one block. Rows of changes of a book are those of any day of it on
+    which these come up: both go by needs however far. kept holds what is known of two masks: who
+    asks of many standings of a book meets the same two again and again.
     """
-    masks = list(block_masks(book).values())
-    floors = [pair_fewest(book, one, other) + len(masks) - 2 for one, other in combinations(masks, 2)]
+    floors = []
+    for pair in combinations(masks, 2):
+        if pair not in kept:
+            one, other = pair
+            kept[pair] = pair_fewest(book, one, other)
+        floors.append(kept[pair] + len(masks) - 2)
     return max(floors, default=len(masks))
+
+
+def pair_floor(book):
+    """The greatest number that the rows of two blocks, with one write of each other block, ask for."""
+    return floor_of(book, list(block_masks(book).values()), {})

@@ -2,8 +2,12 @@
 
 from itertools import combinations, product
 
+from ripewaves.bench import Bench
 from ripewaves.books import Book
-from ripewaves.errors import BadBook, NoChange
+from ripewaves.cache import Cache
+from ripewaves.errors import BadBook, NoChange, WaveError
+from ripewaves.records import Records
+from ripewaves.shell import Shell
 
 
 def deep(make, many):
@@ -22,7 +26,7 @@ def odd_things():
         ((0,),), ([],), ([0],), ({},), (0, True), (0, None), (10 ** 59,), ((),), ((0, 1),),
         range(2), slice(0), Ellipsis, NotImplemented, len, int, tuple, Book, NoChange, object(),
         memoryview(b"0"), iter(()), lambda: 0, Book((), ()), (Book((0,), ()),), [Book((0,), ())],
-        BadBook("ring"), NoChange(),
+        BadBook("ring"), NoChange(), Cache((1,)), Records((1,)), Shell((1,)), (Bench(),), Bench(),
         deep(lambda inner: (inner,), 40), deep(lambda inner: [inner], 40),
         deep(lambda inner: {"a": inner}, 40), deep(lambda inner: (0, inner), 40),
         tuple([None] * 19999), [0] * 19999, tuple([-1] * 19999),
@@ -204,3 +208,101 @@ def plain_latecomers(book):
 def row_lengths(book):
     """The ascending list of the lengths of the willing rows from nothing to all."""
     return sorted({len(row) for row in willing_rows(book)})
+
+
+def outcome(function, *given):
+    """What a call returns, or the class of the error of this package that it raises, and the error's fields."""
+    try:
+        return function(*given)
+    except WaveError as error:
+        return type(error), vars(error)
+
+
+def arm(book, order, turns):
+    """The lots that an arm brings, sweep by sweep, going step by step until all is there."""
+    there = ()
+    way = list(order)
+    lots = []
+    while len(there) < len(book.blocks):
+        ahead = there
+        for block in way:
+            there = behind(book, there, block)
+        lots.append(tuple(change for change in there if change not in ahead))
+        if turns:
+            way.reverse()
+    return lots
+
+
+def needs_rows(far, change):
+    """All rows of needs that end with a change, gone through."""
+    return [(change,)] + [row + (change,) for other in sorted(far[change]) for row in needs_rows(far, other)]
+
+
+def all_needs_rows(book):
+    far = reach(len(book.blocks), book.needs)
+    return [row for change in range(len(book.blocks)) for row in needs_rows(far, change)]
+
+
+def plain_steps_back(book, order, row):
+    places = [order.index(book.blocks[change]) for change in row]
+    return sum(1 for one, other in zip(places, places[1:]) if other < one)
+
+
+def plain_turns(book, order, row):
+    """An arm that sets out in the order goes along the row."""
+    places = [order.index(book.blocks[change]) for change in row]
+    way, turns = 1, 0
+    for one, other in zip(places, places[1:]):
+        if (other - one) * way < 0:
+            way, turns = -way, turns + 1
+    return turns
+
+
+def thrown_order(dice, book):
+    order = blocks_of(book)
+    for at in range(len(order) - 1, 0, -1):
+        to = dice.below(at + 1)
+        order[at], order[to] = order[to], order[at]
+    return tuple(order)
+
+
+def closed_lots(book):
+    """All standings, whether writes lead to them or not."""
+    return [lot for lot in all_lots(len(book.blocks)) if closed(book, lot)]
+
+
+def plain_log(book, row):
+    """The pairs of the blocks of a row and what they bring."""
+    there = ()
+    pairs = []
+    for block in row:
+        pairs.append((block, bring(book, there, block)))
+        there = behind(book, there, block)
+    return tuple(pairs)
+
+
+def all_books(blocks):
+    """All books of some blocks."""
+    many = len(blocks)
+    pairs = [(a, b) for a in range(many) for b in range(many) if a != b]
+    found = []
+    for size in range(len(pairs) + 1):
+        for needs in combinations(pairs, size):
+            if not has_ring(many, needs):
+                found.append(Book(blocks, needs))
+    return found
+
+
+def books_by_log(blocks):
+    """For each log of some blocks the books that make it."""
+    table = {}
+    for book in all_books(blocks):
+        for row in willing_rows(book):
+            table.setdefault(plain_log(book, row), []).append(book)
+    return table
+
+
+# eleven blocks of one change each: 2048 standings can come
+WIDE = Book(tuple(range(11)), ())
+# a chain of two hundred changes
+CHAIN = Book(tuple(k % 3 for k in range(200)), tuple((k, k - 1) for k in range(1, 200)))

@@ -3,11 +3,13 @@
 import copy
 import unittest
 
-from ripewaves import books, days, even, lists, reading, texts, twoblocks
+from ripewaves import books, days, even, lists, reading, rules, shell, sweeps, texts, toldback, trees, twoblocks, wishes
 from ripewaves import standings as rows
+from ripewaves.bench import Bench
 from ripewaves.books import Book, bared, drawn_together, filled
 from ripewaves.cache import Cache
 from ripewaves.errors import Late, WaveError
+from ripewaves.records import Records
 from ripewaves.standings import led, many_rows, standings
 from oracle import deep, odd_things, thrown_books
 
@@ -16,13 +18,47 @@ EVEN = Book((0, 0, 1, 1), ((1, 2), (3, 0)))
 ONE, OTHER = (0, 1, 2, 5), (2, 1, 0, 1)
 WAVED = Book((0, 0, 1), ((1, 2), (2, 0)))
 NEEDS = tuple((a, b) for a in range(200) for b in range(a))[-4000:]
+LINES = ["make 5", "make 6", "tie 0 1", "drop 1", "write 0", "flush", "list"]
+
+
+def first_block(lots):
+    return lots[-1][0]
+
+
+def right_calls_of_wishes(book):
+    """Wishes, rules and sweeps, each with right arguments for a book as of right_calls."""
+    order = tuple(sorted(set(book.blocks)))
+    return [
+        (sweeps.swept, (book, order)), (sweeps.sweep_of, (book, order, 1)), (sweeps.steps_back, (book, order, (1,))),
+        (sweeps.back_row, (book, order)), (sweeps.there_and_back, (book, order)),
+        (sweeps.turns_of, (book, order, (0,))), (sweeps.best_order, (book,)), (sweeps.best_turning, (book,)),
+        (wishes.fewest_for, (book, (), (1,))), (wishes.row_for, (book, (), (0, 1))),
+        (wishes.comes_along, (book, (), (0,))), (wishes.may_come_along, (book, (), (0, 1))),
+        (wishes.best_next, (book, ())), (wishes.wish_numbers, (book,)), (wishes.dearest, (book,)),
+        (rules.row_by, (book, "most")), (rules.rule_numbers, (book,)), (rules.rule_shares, (book,)),
+        (rules.row_of_writer, (first_block, book)), (rules.blind_days, ()), (rules.beaten, (first_block,)),
+    ]
+
+
+def right_calls_of_logs(book):
+    """Logs, trees and tales, each with right arguments for a book as of right_calls."""
+    blocks = book.blocks
+    log = toldback.log_of(book, rules.row_by(book, "turn"))
+    return [
+        (toldback.is_log, (blocks, log)), (toldback.log_of, (book, rules.row_by(book, "few"))),
+        (toldback.makes, (book, log)), (toldback.sure_needs, (blocks, log)), (toldback.never_needs, (blocks, log)),
+        (toldback.open_needs, (blocks, log)), (toldback.fewest_needs, (blocks, log)),
+        (toldback.freest_book, (blocks, log)), (toldback.fullest_book, (blocks, log)),
+        (trees.is_tree, (book, 2, ("cases", {0: ("floor",), 1: ("cases", {})}))), (trees.floors, (book,)),
+        (shell.tale, ((1, 1), LINES)), (shell.tale_text, (LINES,)), (shell.read_tale, (shell.tale_text(LINES),)),
+    ]
 
 
 def right_calls(book):
     """Functions, each with right arguments for a book that has the blocks 0 and 1 and two changes or more."""
     many = len(book.blocks)
     whole = tuple(range(many))
-    return [
+    return right_calls_of_wishes(book) + right_calls_of_logs(book) + [
         (books.beneath, (book, 1)), (books.above, (book, 0)), (books.filled, (book,)), (books.bared, (book,)),
         (books.day, (book, (0, 1))), (books.put_together, (book, 0, 1)), (books.parted, (book, 1)),
         (books.beside, (book, WAVED)), (books.beside, (WAVED, book)),
@@ -64,6 +100,19 @@ def wrong_calls(book):
         (twoblocks.by_turns, (book, [0])), (twoblocks.number_at, (book, 0, [0])), (twoblocks.row_to, (book, 0, {0: 0})),
         (lists.lists_book, ([0], [[1]])), (lists.meetings, ((), [1, [2]])), (lists.is_mirrors, ([0], (), ())),
         (lists.many_even, ([0], 1, 1)), (lists.many_even, ((), [1], [1])), (lists.many_even, ((), 1, {1: 1})),
+        (sweeps.swept, (book, [0, 1])), (sweeps.sweep_of, (book, (0, 1), [0])), (sweeps.back_row, (book, {0: 1})),
+        (sweeps.steps_back, (book, (0, 1), [0])), (sweeps.turns_of, (book, (0, 1), {0: [1]})),
+        (sweeps.there_and_back, (book, ([0], [1]))), (wishes.fewest_for, (book, [], ())),
+        (wishes.row_for, (book, (), [0])), (wishes.comes_along, (book, (), {0: 0})),
+        (wishes.may_come_along, (book, [[]], [])), (wishes.best_next, (book, [0])), (rules.row_by, (book, ["least"])),
+        (rules.row_of_writer, (lambda lots: lots, book)), (rules.beaten, (lambda lots: [0],)),
+        (toldback.is_log, ([0], ())), (toldback.log_of, (book, [0, 1])), (toldback.makes, (book, [(0, [0])])),
+        (toldback.sure_needs, ([0], [])), (toldback.never_needs, ((0,), [(0, (0,))])),
+        (toldback.open_needs, ((0,), ((0, [0]),))), (toldback.fewest_needs, ((0,), ([0, (0,)],))),
+        (toldback.freest_book, ({0: 0}, ())), (toldback.fullest_book, ((), [])), (toldback.other_rows, ((), {0: 0})),
+        (trees.tree_for, (book, [1])), (trees.is_tree, (book, {1: 1}, ("floor",))), (Records, ([1, [2]],)),
+        (shell.Shell, ([1],)), (shell.tale, ([1], LINES)), (shell.tale, ((1,), LINES + [LINES])),
+        (shell.tale_text, ({0: "list"},)), (shell.read_tale, (LINES,)), (Bench().lie, ([0],)),
     ]
 
 
@@ -109,6 +158,11 @@ class Unchanged(unittest.TestCase):
                 even.is_lefts(EVEN, {(): thing})
                 even.is_parting(EVEN, thing)
                 even.is_parting(EVEN, ((), thing, thing))
+                toldback.is_log(EVEN.blocks, thing)
+                toldback.is_log(EVEN.blocks, ((0, thing),))
+                trees.is_tree(EVEN, 0, thing)
+                trees.is_tree(EVEN, 0, ("cases", thing))
+                trees.is_tree(EVEN, 0, ("cases", {0: thing, 1: thing}))
                 twoblocks.is_to_and_fro(EVEN, thing)
                 twoblocks.is_to_and_fro(EVEN, (0, thing))
                 lists.is_mirrors(ONE, OTHER, thing)
@@ -148,6 +202,11 @@ class New(unittest.TestCase):
         for function, given in (
             (standings, (EVEN,)), (led, (EVEN, (), (0, 1))), (days.latecomers, (EVEN,)), (days.bad_days, (EVEN,)),
             (days.waves, (WAVED, 0)), (lists.meetings, (ONE, OTHER)), (twoblocks.by_turns, (WAVED, 1)),
+            (sweeps.swept, (WAVED, (0, 1))), (sweeps.there_and_back, (EVEN, (1, 0))),
+            (toldback.sure_needs, ((0, 1, 0, 1), tuple((k % 2, (k,)) for k in range(4)))),
+            (toldback.never_needs, ((0, 1), ((0, (0,)), (1, (1,))))),
+            (toldback.open_needs, ((0, 1), ((0, (0,)), (1, (1,))))), (shell.tale, ((1, 1), LINES)),
+            (shell.read_tale, ("list\ncut\n",)),
         ):
             first = function(*given)
             kept = list(first)
@@ -156,6 +215,17 @@ class New(unittest.TestCase):
             second = function(*given)
             self.assertEqual(second, kept)
             self.assertIsNot(first, second)
+
+    def test_dicts_that_are_returned_are_new(self):
+        for function, given in (
+            (even.lefts, (EVEN,)), (rules.rule_numbers, (EVEN,)), (rules.rule_shares, (EVEN,)), (trees.floors, (EVEN,)),
+        ):
+            first = function(*given)
+            kept = dict(first)
+            for key in kept:
+                first[key] = None
+            first["more"] = None
+            self.assertEqual(function(*given), kept)
 
     def test_kinds_of_results(self):
         for book in sample():
@@ -198,6 +268,13 @@ KINDS = {
     "mirrors": (tuple, None), "is_mirrors": bool, "list_parting": (tuple, None), "many_even": int,
     "is_to_and_fro": bool, "two_rows": tuple, "long_row": tuple, "fewest_two": int, "by_turns": list,
     "number_at": int, "row_to": (tuple, None),
+    "swept": list, "sweep_of": int, "steps_back": int, "back_row": (tuple, None), "there_and_back": list,
+    "turns_of": int, "best_order": tuple, "best_turning": tuple, "fewest_for": int, "row_for": tuple,
+    "comes_along": tuple, "may_come_along": tuple, "best_next": tuple, "wish_numbers": tuple, "dearest": tuple,
+    "row_by": tuple, "rule_numbers": dict, "rule_shares": dict, "row_of_writer": tuple, "blind_days": tuple,
+    "beaten": tuple, "is_log": bool, "log_of": tuple, "makes": bool, "sure_needs": list, "never_needs": list,
+    "open_needs": list, "fewest_needs": int, "freest_book": Book, "fullest_book": Book, "is_tree": bool, "floors": dict,
+    "tale": list, "tale_text": str, "read_tale": list,
 }
 
 
@@ -219,6 +296,11 @@ class DeepThings(unittest.TestCase):
             self.assertIs(even.is_parting(LATE, given), False)
             self.assertIs(twoblocks.is_to_and_fro(LATE, given), False)
             self.assertIs(lists.is_mirrors(ONE, OTHER, given), False)
+            self.assertIs(toldback.is_log(LATE.blocks, given), False)
+            self.assertIs(toldback.is_log(LATE.blocks, ((1, given), (0, (0,)))), False)
+            self.assertIs(trees.is_tree(LATE, 0, given), False)
+            self.assertIs(trees.is_tree(LATE, 0, ("cases", {0: ("floor",), 1: given})), False)
+        self.judged_by_later_parts(thing)
         cache = Cache((1, 1))
         calls = [
             (Book, (thing, ())), (Book, ((0, 0), (thing,))), (drawn_together, (thing, ())),
@@ -238,6 +320,36 @@ class DeepThings(unittest.TestCase):
             (lists.fewest_lists, ((thing,), ())), (lists.most_lists, ((), (thing,))), (lists.least_row, (thing, ())),
             (lists.mirrors, (thing, thing)), (lists.is_mirrors, ((0, thing), (), ())), (lists.list_parting, (thing, 0)),
             (lists.many_even, (thing, 0, 0)), (lists.many_even, ((), thing, 0)), (lists.many_even, ((), 0, thing)),
+        ]
+        for function, given in calls:
+            with self.assertRaises(WaveError):
+                function(*given)
+
+    def judged_by_later_parts(self, thing):
+        store, bench, small = Records((1, 1)), Bench(), (0, 1)
+        store.make(5)
+        bench.lie(0)
+        calls = [
+            (sweeps.swept, (EVEN, thing)), (sweeps.sweep_of, (EVEN, thing, 0)), (sweeps.sweep_of, (EVEN, small, thing)),
+            (sweeps.steps_back, (EVEN, small, thing)), (sweeps.steps_back, (EVEN, small, (0, thing))),
+            (sweeps.back_row, (EVEN, (0, thing))), (sweeps.there_and_back, (EVEN, thing)),
+            (sweeps.turns_of, (EVEN, small, (thing,))), (wishes.fewest_for, (EVEN, thing, ())),
+            (wishes.row_for, (EVEN, (), (0, thing))), (wishes.comes_along, (EVEN, (thing,), ())),
+            (wishes.may_come_along, (EVEN, (), (thing,))), (wishes.best_next, (EVEN, thing)),
+            (rules.row_by, (EVEN, thing)), (rules.row_of_writer, (lambda lots: thing, EVEN)),
+            (rules.beaten, (lambda lots: thing,)), (toldback.log_of, (EVEN, thing)), (toldback.makes, (EVEN, thing)),
+            (toldback.is_log, ((thing,), ())), (toldback.sure_needs, (thing, thing)),
+            (toldback.never_needs, (small, thing)), (toldback.open_needs, (small, ((0, thing),))),
+            (toldback.fewest_needs, (small, (thing,))), (toldback.freest_book, (small, ((thing, (0,)), (1, (1,))))),
+            (toldback.fullest_book, (small, thing)), (toldback.other_rows, (small, thing)),
+            (trees.tree_for, (EVEN, thing)), (trees.is_tree, (EVEN, thing, thing)), (Records, (thing,)),
+            (shell.Shell, (thing,)), (store.make, (thing,)), (store.put, (0, thing)), (store.put, (thing, 5)),
+            (store.tie, (thing, 0)), (store.tie, (0, thing)), (store.untie, (thing,)), (store.drop, (thing,)),
+            (store.ties_to, (thing,)), (store.write, (thing,)), (store.settle, (thing,)),
+            (shell.Shell((1,)).tell, (thing,)), (shell.tale, (thing, [])), (shell.tale, ((1,), [thing])),
+            (shell.tale_text, ((thing,),)), (shell.read_tale, (thing,)), (bench.lie, (thing,)),
+            (bench.shift, (thing, 0)), (bench.shift, (0, thing)), (bench.need, (thing, 0)), (bench.need, (0, thing)),
+            (bench.unneed, (thing, 0)), (bench.unneed, (0, thing)),
         ]
         for function, given in calls:
             with self.assertRaises(WaveError):
@@ -291,6 +403,11 @@ class Examples(unittest.TestCase):
         got = (twoblocks.fewest_two(EVEN), twoblocks.two_rows(LATE), lists.fewest_lists((0, 1, 2), (2, 1, 0)),
                lists.mirrors((0, 1, 2), (2, 1, 0)))
         self.assertEqual(got, (3, (2, 1), 5, (2,)))
+
+    def test_e06(self):
+        back = Book((2, 0, 1), ((1, 0), (2, 1)))
+        got = (sweeps.swept(back, (0, 1, 2)), sweeps.steps_back(back, (0, 1, 2), (0, 1, 2)))
+        self.assertEqual(got, ([(0,), (1, 2)], 1))
 
     def test_e07(self):
         cache = Cache((1, 1))

@@ -2,12 +2,13 @@
 
 import ast
 import unittest
+from importlib import import_module
 from pathlib import Path
 
 PACKAGE = Path(__file__).resolve().parent.parent / "ripewaves"
 BUILTINS = {
     "len", "range", "enumerate", "zip", "min", "max", "sum", "abs", "sorted", "reversed", "int", "str", "bool",
-    "list", "tuple", "dict", "set", "isinstance", "ord", "repr", "any", "all", "divmod", "ValueError",
+    "list", "tuple", "dict", "set", "isinstance", "ord", "repr", "any", "all", "divmod", "ValueError", "type",
 }
 ALL_BUILTINS = set(dir(__import__("builtins")))
 METHODS = set("__init__ __eq__ __repr__ __str__ __len__".split())
@@ -138,7 +139,15 @@ class Rows(unittest.TestCase):
             for node in ast.walk(tree):
                 names = [getattr(node, field, None) for field in ("id", "attr", "arg", "name")]
                 for name in names:
-                    self.assertNotIn(name, WORDS, path)
+                    if name != "type":
+                        self.assertNotIn(name, WORDS, path)
+
+    def test_the_kind_of_a_thing_is_asked_for_its_name_alone(self):
+        for path, tree in trees():
+            asked = [n.value.func for n in ast.walk(tree) if isinstance(n, ast.Attribute) and n.attr == "__name__"
+                     and isinstance(n.value, ast.Call)]
+            read = [n for n in ast.walk(tree) if isinstance(n, ast.Name) and n.id == "type"]
+            self.assertEqual(set(map(id, asked)), set(map(id, read)), path)
 
     def test_lists_where_a_class_compares(self):
         for path, tree in trees():
@@ -168,16 +177,29 @@ class Interface(unittest.TestCase):
             "twoblocks": "is_to_and_fro two_rows long_row fewest_two by_turns number_at row_to pair_floor",
             "lists": """lists_book meetings fewest_lists most_lists least_row mirrors is_mirrors list_parting
             many_even""",
+            "sweeps": "swept there_and_back sweep_of steps_back turns_of back_row best_order best_turning",
+            "wishes": "fewest_for row_for comes_along may_come_along best_next wish_numbers dearest",
+            "rules": "row_by row_of_writer rule_numbers rule_shares blind_days beaten",
+            "toldback": """is_log makes log_of sure_needs never_needs open_needs fewest_needs other_rows freest_book
+            fullest_book""",
+            "records": "Records",
+            "shell": "Shell tale read_tale tale_text",
+            "trees": "tree_for is_tree floors",
+            "bench": "Bench",
         }
         for name, words in listed.items():
             defined = definitions(ast.parse((PACKAGE / (name + ".py")).read_text()))
             for word in words.split():
                 self.assertIn(word, defined)
+                self.assertEqual(getattr(import_module("ripewaves." + name), word).__module__, "ripewaves." + name)
 
     def test_classes_have_their_methods_in_their_own_bodies(self):
         listed = {
             "books": "__init__ __eq__",
             "cache": "change writes last write waiting ripe cut seen picture disk sync flush book drop gone history copy",
+            "records": """cache make put tie untie drop records on_disk ties_to write flush cut settle copy""",
+            "shell": "tell",
+            "bench": "lie fewest worked shift need unneed undo book even late copy",
         }
         for name, words in listed.items():
             tree = ast.parse((PACKAGE / (name + ".py")).read_text())
